@@ -5,6 +5,7 @@ import (
 	"testing"
 
 	"armoire/api"
+	"armoire/wal"
 )
 
 // move is one step of a row: a record of about that length, or, below 0, something else.
@@ -57,12 +58,11 @@ func cutAt(t *testing.T, row []move, n int, mask string) (*rig, bool) {
 	g := newRig(t, 10)
 	g.d.Arm(n, mask)
 	cut := g.run(t, row)
-	g.d.Arm(-1, "")
-	cutAndPower(g.d, mask)
+	g.power(mask)
 	return g, cut
 }
 
-// P7.4, P7.2: a cut at each write of a row, and at each Sync; then the log is opened from each number that From was.
+// P7.4, P7.2: a cut at each write of a row, and at each Sync; then the log is opened from each number that From was, and from each other one behind that.
 func TestCutAnywhere(t *testing.T) {
 	for _, row := range rows {
 		for _, mask := range masks {
@@ -71,7 +71,10 @@ func TestCutAnywhere(t *testing.T) {
 				for _, from := range g.valid() {
 					c := g.clone()
 					c.open(t, from)
-					c.open(t, from)
+					for _, other := range g.valid() {
+						c.open(t, other)
+						c.open(t, from)
+					}
 				}
 				if !cut {
 					break
@@ -99,7 +102,7 @@ func TestCutWhileItIsOpened(t *testing.T) {
 						c.cutOpen(t, from, 1, mask)
 						c.open(t, from)
 						c.run(t, []move{0})
-						cutAndPower(c.d, mask)
+						c.power(mask)
 						c.open(t, from)
 					}
 				}
@@ -128,11 +131,10 @@ func TestNothingComesBack(t *testing.T) {
 						c.let(t, 1)
 						c.d.Arm(k, second)
 						c.run(t, []move{0, 600, sync, letOne, 0, 0})
-						c.d.Arm(-1, "")
-						cutAndPower(c.d, second)
+						c.power(second)
 						c.open(t, c.l.From())
 						c.run(t, []move{letAll, 500, 0, 0, sync})
-						cutAndPower(c.d, "")
+						c.power("")
 						c.open(t, c.l.From())
 					}
 				}
@@ -208,7 +210,7 @@ func TestLetGoAndLost(t *testing.T) {
 	for range 2 {
 		l = wantOpen(t, d, count, 0, 5, rec(0, "safe"), rec(3, "new"), rec(4, "newer"))
 	}
-	// Three more take no more than six blocks with those; but the ring ends at the first of them.
+	// Three more take six blocks with those.
 	wantAppend(t, l, 5, "a")
 	wantAppend(t, l, 6, "b")
 	wantAppend(t, l, 7, "c")
@@ -247,7 +249,7 @@ func TestLetGoAndLostAgain(t *testing.T) {
 	}
 }
 
-// P7.4: what tells of a later beginning may itself be left over; it is overwritten, the beginning is not forgotten.
+// P7.4, P7.2: where what was let go was lost, and then what was appended behind it too, nothing of that is left over.
 func TestLetGoAndLostBehindIt(t *testing.T) {
 	const count = 8
 	d, l := newLog(t, count)
@@ -257,75 +259,191 @@ func TestLetGoAndLostBehindIt(t *testing.T) {
 	l = wantOpen(t, d, count, 1, 1)
 	wantAppend(t, l, 1, "lost too")
 	wantAppend(t, l, 2, "left over")
+	wantLet(t, l, 2, api.OK)
 	cutAndPower(d, "\x00\x01")
-	l, recs := mustOpen(t, d, 0, count, 0)
-	wantRecs(t, recs)
-	wantEnds(t, l, 1, 1)
-	wantAppend(t, l, 1, "new")
-	wantSync(t, l, api.OK)
-	cutAndPower(d, "")
-	l, recs = mustOpen(t, d, 0, count, 0)
-	wantRecs(t, recs, rec(1, "new"))
-	wantEnds(t, l, 1, 2)
-}
-
-// P7.4: a record that the ring would end ahead of is refused, be there ever so few.
-func TestRingEnds(t *testing.T) {
-	const count = 6
-	d, l := newLog(t, count)
-	wantAppend(t, l, 0, "safe")
-	wantSync(t, l, api.OK)
-	for i := range uint64(3) {
-		wantAppend(t, l, 1+i, "lost")
+	l = wantOpen(t, d, count, 0, 0)
+	for _, from := range []uint64{0, 1, 2} {
+		wantOpen(t, d.Clone(), count, from, from)
 	}
-	wantLet(t, l, 4, api.OK)
-	cutAndPower(d, "")
-	l = wantOpen(t, d, count, 4, 4)
-	wantAppend(t, l, 4, "new")
+	wantAppend(t, l, 0, "new")
 	wantSync(t, l, api.OK)
 	cutAndPower(d, "")
-	l = wantOpen(t, d, count, 0, 5, rec(0, "safe"), rec(4, "new"))
-	wantAppendErr(t, l, api.ErrFull, groupOf(500, 'x')...)
-	wantAppend(t, l, 5, "newer")
-	wantAppendErr(t, l, api.ErrFull, "d")
-	wantLet(t, l, 4, api.OK)
-	wantAppend(t, l, 6, "round")
-	wantOpen(t, d, count, 4, 7, rec(4, "new"), rec(5, "newer"), rec(6, "round"))
+	wantOpen(t, d, count, 0, 1, rec(0, "new"))
 }
 
-// P7.1 to P7.4: long rows of calls, with cuts wherever, held against the plainest form.
+// P7.2: what stands behind the last record that is whole is read by no Open to come, from wherever: it does not hang on the number that the log was opened from meanwhile.
+func TestBehindTheLastWholeRecord(t *testing.T) {
+	const count = 12
+	for _, meanwhile := range [][]uint64{{}, {3}, {2}, {3, 3}, {2, 3}, {3, 2}} {
+		d, l := newLog(t, count)
+		wantAppend(t, l, 0, "a")
+		wantSync(t, l, api.OK)
+		wantAppend(t, l, 1, "h")
+		wantAppend(t, l, 2, "i")
+		wantLet(t, l, 2, api.OK)
+		wantLet(t, l, 3, api.OK)
+		cutAndPower(d, "\x00\x01")
+		for _, from := range meanwhile {
+			o, _ := mustOpen(t, d, 0, count, from)
+			at, err := o.Append(groupOf(1000, 'x'))
+			if at < from || err != api.OK {
+				t.Fatalf("Append: got %d, %d", at, err)
+			}
+			cutAndPower(d, "\x01\x00\x00")
+		}
+		wantOpen(t, d, count, 0, 1, rec(0, "a"))
+		for _, from := range []uint64{2, 3, 1, 2} {
+			wantOpen(t, d, count, from, from)
+		}
+		wantOpen(t, d, count, 0, 1, rec(0, "a"))
+	}
+}
+
+// P7.3: records that were lost take no room, be it that they stood ahead of others that are there.
+func TestRoomWhereSomeWereLost(t *testing.T) {
+	for _, count := range []int{4, 6, 7, 30} {
+		for lost := 1; lost <= count-3; lost++ {
+			d, l := newLog(t, count)
+			wantAppend(t, l, 0, "safe")
+			wantSync(t, l, api.OK)
+			for i := range lost {
+				wantAppend(t, l, uint64(i+1), "lost")
+			}
+			from := l.Next()
+			wantLet(t, l, from, api.OK)
+			cutAndPower(d, "")
+			l = wantOpen(t, d, count, from, from)
+			wantAppend(t, l, from, "new")
+			wantSync(t, l, api.OK)
+			want := []wal.Rec{rec(0, "safe"), rec(from, "new")}
+			l = wantOpen(t, d, count, 0, from+1, want...)
+			for len(want) < count-2 {
+				want = append(want, rec(l.Next(), "x"))
+				wantAppend(t, l, l.Next(), "x")
+			}
+			wantAppendErr(t, l, api.ErrFull, "y")
+			wantSync(t, l, api.OK)
+			cutAndPower(d, "")
+			l = wantOpen(t, d, count, 0, l.Next(), want...)
+			wantAppendErr(t, l, api.ErrFull, "y")
+			// Round and round, with the hole somewhere.
+			for i := range 3 * count {
+				wantLet(t, l, want[1].At, api.OK)
+				want = append(want[1:], rec(l.Next(), "z", string(rune('0'+i))))
+				wantAppend(t, l, l.Next(), want[len(want)-1].Group...)
+				l = wantOpen(t, d, count, want[0].At, l.Next(), want...)
+			}
+		}
+	}
+}
+
+// P7.2: a number that From was may be within another record, when what was there was lost; what stands behind it is told.
+func TestFromWithinALaterRecord(t *testing.T) {
+	const count = 12
+	d, l := newLog(t, count)
+	wantAppend(t, l, 0, "lost")
+	wantAppend(t, l, 1, "lost")
+	wantLet(t, l, 2, api.OK)
+	cutAndPower(d, "")
+	l = wantOpen(t, d, count, 0, 0)
+	long := groupOf(1200, 'l')
+	wantAppend(t, l, 0, long...)
+	wantAppend(t, l, 3, "behind")
+	wantSync(t, l, api.OK)
+	wantLet(t, l, 4, api.OK)
+	cutAndPower(d, "")
+	for range 2 {
+		l, recs := mustOpen(t, d, 0, count, 2)
+		wantRecs(t, recs, rec(3, "behind"))
+		wantEnds(t, l, 3, 4)
+		wantOpen(t, d, count, 0, 4, rec(0, long...), rec(3, "behind"))
+	}
+	wantOpen(t, d, count, 4, 4)
+}
+
+// P7.2, P7.4: what is left of a record that overwrote others is wiped, but the others are known to be gone: those behind them are told all the same.
+func TestWhatOverwroteIsLost(t *testing.T) {
+	const count = 6
+	for lost := range 3 {
+		d, l := newLog(t, count)
+		for i := range uint64(4) {
+			wantAppend(t, l, i, "old", string(rune('0'+i)))
+		}
+		wantSync(t, l, api.OK)
+		wantLet(t, l, 2, api.OK)
+		// Two of its blocks are new, one was that of the record 0.
+		wantLet(t, l, 3, api.OK)
+		wantAppend(t, l, 4, groupOf(1200, 'n')...)
+		if l.Next() != 7 {
+			t.Fatalf("Next: got %d", l.Next())
+		}
+		mask := []byte{1, 1, 1}
+		mask[lost] = 0
+		cutAndPower(d, string(mask))
+		for _, from := range []uint64{2, 3, 2} {
+			c := d.Clone()
+			for range 3 {
+				_, recs := mustOpen(t, c, 0, count, 3)
+				wantRecs(t, recs, rec(3, "old", "3"))
+				_, recs = mustOpen(t, c, 0, count, from)
+				wantRecs(t, recs[len(recs)-1:], rec(3, "old", "3"))
+				if len(recs) != int(4-from) {
+					t.Errorf("from %d: got %s", from, tell(recs))
+				}
+			}
+		}
+	}
+}
+
+// P7.1 to P7.4: long rows of calls, with cuts wherever, held against the plainest form; the log is opened from whatever From was.
 func TestAgainstModel(t *testing.T) {
 	r := rand.New(rand.NewSource(7))
-	lengths := []int{0, 0, 50, 390, 398, 402, 480, 500, 800, 1200, 3900}
-	for range 150 {
+	lengths := []int{0, 0, 0, 50, 390, 398, 402, 480, 500, 800, 1200, 3900}
+	for range 400 {
 		g := newRig(t, 4+r.Intn(20))
 		for range 120 {
 			if r.Intn(6) == 0 {
 				g.d.Arm(r.Intn(8), randomMask(r))
 			}
-			switch r.Intn(8) {
+			switch r.Intn(9) {
 			case 0:
 				g.sync(t)
 			case 1, 2:
 				g.let(t, r.Intn(4))
 			case 3:
 				if r.Intn(4) == 0 {
-					g.d.Cut(randomMask(r))
+					g.power(randomMask(r))
+					g.openAnywhere(t, r)
+				}
+			case 4:
+				if r.Intn(8) == 0 && g.d.On() {
+					g.d.Arm(-1, "")
+					g.openAnywhere(t, r)
 				}
 			default:
 				g.append(t, lengths[r.Intn(len(lengths))])
 			}
-			if g.d.On() {
-				continue
+			if !g.d.On() {
+				g.power("")
+				g.openAnywhere(t, r)
 			}
-			g.d.Power()
-			from := g.l.From()
-			if v := g.valid(); r.Intn(2) == 0 {
-				from = v[r.Intn(len(v))]
-			}
-			for r.Intn(2) == 0 && g.cutOpen(t, from, r.Intn(3), randomMask(r)) {
-			}
-			g.open(t, from)
+		}
+	}
+}
+
+// openAnywhere opens the log, perhaps several times, perhaps from elder numbers, perhaps with cuts on the way.
+func (g *rig) openAnywhere(t *testing.T, r *rand.Rand) {
+	t.Helper()
+	for {
+		from := g.l.From()
+		if v := g.valid(); r.Intn(2) == 0 {
+			from = v[r.Intn(len(v))]
+		}
+		for r.Intn(2) == 0 && g.cutOpen(t, from, r.Intn(3), randomMask(r)) {
+		}
+		g.open(t, from)
+		if r.Intn(3) > 0 {
+			return
 		}
 	}
 }

@@ -197,13 +197,15 @@ func TestOpenFromAnywhere(t *testing.T) {
 	}
 }
 
-// R1: a number within a record is no record's: nothing of it is told.
+// P7.2: a number within a record is no record's: nothing of it is told, but what is behind it.
 func TestOpenWithinARecord(t *testing.T) {
 	d, l := newLog(t, 12)
 	wantAppend(t, l, 0, groupOf(1200, 'x')...)
-	wantAppend(t, l, l.Next(), "y")
-	for from := uint64(1); from < l.Next()-1; from++ {
-		wantOpen(t, d.Clone(), 12, from, from)
+	wantAppend(t, l, 3, "y")
+	for from := uint64(1); from < 3; from++ {
+		o, recs := mustOpen(t, d.Clone(), 0, 12, from)
+		wantRecs(t, recs, rec(3, "y"))
+		wantEnds(t, o, 3, 4)
 	}
 }
 

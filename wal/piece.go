@@ -1,6 +1,7 @@
 package wal
 
 import (
+	"cmp"
 	"slices"
 
 	"armoire/api"
@@ -10,21 +11,31 @@ import (
 const (
 	maxTexts  = 255
 	maxText   = 255
-	headWidth = 8 + 8 + 1 + 2
+	headWidth = 1 + 8 + 8 + 1 + 2
 	sealWidth = 4
 	pieceMax  = api.Block - headWidth - sealWidth // bytes of a record in one block
 )
 
-// piece is what one block has of a record.
+// kind is what a block has.
+type kind uint8
+
+const (
+	nothing kind = iota
+	follows      // part of a record that is none without the one just ahead of it
+	begins       // part of a record that is one whatever was lost ahead of it
+)
+
+// piece is what one block has of a record. A block without any has a tail all the same: nothing else may tell it, when what overwrote the last records was itself lost.
 type piece struct {
+	kind   kind
+	tail   uint64 // its log's, when it was written
 	at     uint64 // the record's number
-	since  uint64 // its log's, when it was appended
 	index  int    // which of the record's pieces this is
 	length int    // bytes that the whole record has
 	body   []byte
 }
 
-func (p piece) number() uint64 { return p.at + uint64(p.index) }
+func compare(a, b piece) int { return cmp.Or(cmp.Compare(a.at, b.at), cmp.Compare(a.index, b.index)) }
 
 func mayBeRecord(group []string) bool {
 	return len(group) <= maxTexts && !slices.ContainsFunc(group, isLong) && length(group) <= api.MaxRecord
@@ -42,12 +53,12 @@ func length(group []string) int {
 }
 
 // pieces are what a record becomes, in as few blocks as it has room in; a record without texts takes one too.
-func pieces(at, since uint64, group []string) []piece {
+func pieces(group []string) []piece {
 	body := lay(group)
 	list := make([]piece, blocksFor(len(body)))
 	for i := range list {
 		from, to := i*pieceMax, min((i+1)*pieceMax, len(body))
-		list[i] = piece{at: at, since: since, index: i, length: len(body), body: body[from:to]}
+		list[i] = piece{index: i, length: len(body), body: body[from:to]}
 	}
 	return list
 }
@@ -64,7 +75,7 @@ func lay(group []string) []byte {
 }
 
 func (p piece) encode() []byte {
-	head := slices.Concat(fixed(p.at, 8), fixed(p.since, 8), fixed(uint64(p.index), 1), fixed(uint64(p.length), 2))
+	head := slices.Concat(fixed(uint64(p.kind), 1), fixed(p.tail, 8), fixed(p.at, 8), fixed(uint64(p.index), 1), fixed(uint64(p.length), 2))
 	b := make([]byte, api.Block-sealWidth)
 	copy(b, slices.Concat(head, p.body))
 	return codec.Seal(b)

@@ -36,13 +36,9 @@ func (r *reader) text() string {
 	return must(s, err)
 }
 
-// readPiece reads the piece of that number; elder ones may stand at its place.
-func readPiece(r ring, number uint64) piece {
-	in := reader{rest: must(codec.Unseal(must(r.disk.Read(r.block(number)))))}
-	p := piece{at: in.number(8), since: in.number(8), index: int(in.number(1)), length: int(in.number(2))}
-	if p.number() != number {
-		panic(api.ErrNone)
-	}
+func readPiece(r ring, block int) piece {
+	in := reader{rest: must(codec.Unseal(must(r.read(block))))}
+	p := piece{kind: kind(in.number(1)), tail: in.number(8), at: in.number(8), index: int(in.number(1)), length: int(in.number(2))}
 	p.body = in.rest
 	return p
 }
@@ -54,4 +50,20 @@ func readGroup(body []byte) []string {
 		group = append(group, in.text())
 	}
 	return group
+}
+
+// readWhole reads the record whose pieces, in their order, stand first.
+func readWhole(list []found) whole {
+	first := list[0]
+	w := whole{taken: taken{at: first.at}, begins: first.kind == begins}
+	var body []byte
+	for i := range blocksFor(first.length) {
+		if i == len(list) || list[i].at != first.at || list[i].index != i {
+			panic(api.ErrNone)
+		}
+		body = append(body, list[i].body...)
+		w.blocks = append(w.blocks, list[i].block)
+	}
+	w.group = readGroup(body[:first.length])
+	return w
 }

@@ -16,11 +16,20 @@ type rig struct {
 	count int
 	d     *disk.Disk
 	l     *wal.Log
-	recs  []wal.Rec // all since Make that may still be told
-	safe  int       // how many of recs surely are
-	froms []uint64  // what From was
-	end   uint64    // behind all that was written
-	made  int       // records so far: no two have the same texts
+	recs  []known  // all that may still be told
+	froms []uint64 // what From was
+	floor uint64   // from a number below it on something was overwritten
+	life  int      // how often the log was opened
+	cut   bool     // since then
+	made  int      // records so far: no two have the same texts
+}
+
+// known is a record that was appended.
+type known struct {
+	wal.Rec
+	end  uint64
+	life int
+	safe bool
 }
 
 func newRig(t *testing.T, count int) *rig {
@@ -42,18 +51,30 @@ func (g *rig) append(t *testing.T, length int) api.Errno {
 		if took := g.l.Next() - at; at != next || g.l.From() != from || took < 1 || took > uint64(n/400+1) {
 			t.Fatalf("Append: got %d for %d, Next %d", at, next, g.l.Next())
 		}
-		g.recs = append(g.recs, rec(at, group...))
-		g.end = max(g.end, g.l.Next())
+		g.recs = append(g.recs, known{Rec: rec(at, group...), end: g.l.Next(), life: g.life})
+		g.overwrite(0)
 	case api.ErrFull:
 		if g.counted()+n/400+1 <= g.count-2 {
 			t.Fatalf("Append of the length %d: ErrFull, with %d blocks of %d", n, g.counted(), g.count)
 		}
 	case api.ErrDown:
-		g.end = max(g.end, next+uint64(n/400+1))
+		g.overwrite(n/400 + 1)
 	default:
 		t.Fatalf("Append: got %d", err)
 	}
 	return err
+}
+
+// overwrite forgets the eldest records, as far as the ring is too small for them and so many blocks more.
+func (g *rig) overwrite(blocks int) {
+	for i, r := range slices.Backward(g.recs) {
+		blocks += int(r.end - r.At)
+		if blocks > g.count {
+			g.floor = r.At + 1
+			g.recs = g.recs[i+1:]
+			return
+		}
+	}
 }
 
 // counted are the blocks of the records that are there, as the document counts them.
@@ -71,20 +92,28 @@ func (g *rig) sync(t *testing.T) api.Errno {
 	t.Helper()
 	err := g.l.Sync()
 	if err == api.OK {
-		g.safe = len(g.recs)
+		g.allSafe()
 	} else if err != api.ErrDown {
 		t.Fatalf("Sync: got %d", err)
 	}
 	return err
 }
 
+// allSafe says nothing of what was perhaps lost ahead of the last Open.
+func (g *rig) allSafe() {
+	for i := range g.recs {
+		if g.recs[i].life == g.life {
+			g.recs[i].safe = true
+		}
+	}
+}
+
 // let lets the first k records go.
 func (g *rig) let(t *testing.T, k int) {
 	t.Helper()
-	there := slices.DeleteFunc(slices.Clone(g.recs), func(r wal.Rec) bool { return r.At < g.l.From() })
 	to := g.l.Next()
-	if k < len(there) {
-		to = there[k].At
+	if first := g.firstFrom(g.l.From()); first+k < len(g.recs) {
+		to = g.recs[first+k].At
 	}
 	wantLet(t, g.l, to, api.OK)
 	g.froms = append(g.froms, to)
@@ -92,41 +121,73 @@ func (g *rig) let(t *testing.T, k int) {
 
 // valid are the numbers that the log may be opened from: nothing behind them was overwritten.
 func (g *rig) valid() []uint64 {
-	return slices.DeleteFunc(slices.Clone(g.froms), func(from uint64) bool { return from+uint64(g.count) < g.end })
+	list := slices.DeleteFunc(slices.Clone(g.froms), func(from uint64) bool { return from < g.floor })
+	slices.Sort(list)
+	return slices.Compact(list)
 }
 
 func (g *rig) firstFrom(from uint64) int {
-	i, _ := slices.BinarySearchFunc(g.recs, from, func(r wal.Rec, at uint64) int { return int(int64(r.At - at)) })
+	i, _ := slices.BinarySearchFunc(g.recs, from, func(r known, at uint64) int { return int(int64(r.At - at)) })
 	return i
 }
 
 // open opens the log and holds what it tells against the document.
 func (g *rig) open(t *testing.T, from uint64) {
 	t.Helper()
+	if !g.cut {
+		g.allSafe()
+	}
 	l, told := mustOpen(t, g.d, 0, g.count, from)
 	first := g.firstFrom(from)
-	least, most := max(g.safe-first, 0), len(g.recs)-first
-	if len(told) < least || len(told) > most {
-		t.Fatalf("from %d: told %s, want %d to %d of %s", from, tell(told), least, most, tell(g.recs))
+	kept := g.heldAgainst(t, from, g.recs[first:], told)
+	wantFrom, wantNext := from, from
+	if len(kept) > 0 {
+		wantFrom, wantNext = kept[0].At, kept[len(kept)-1].end
 	}
-	wantRecs(t, told, g.recs[first:first+len(told)]...)
-	next := from
-	if len(told) > 0 {
-		next = g.l.Next()
-		if len(told) < most {
-			next = g.recs[first+len(told)].At
+	if len(kept) == 0 && first > 0 && g.recs[first-1].end > from {
+		// It is a record's no more, but was one's that was lost.
+		wantFrom, wantNext = l.Next(), l.Next()
+	}
+	wantEnds(t, l, wantFrom, wantNext)
+	if l.Next() < from {
+		t.Fatalf("from %d: Next %d", from, l.Next())
+	}
+	g.l, g.recs = l, slices.Concat(g.recs[:first], kept)
+	g.froms = append(g.froms, from, l.From())
+	g.life++
+	g.cut = false
+}
+
+// heldAgainst is what was told. All that are safe must be; of those that were appended behind them the first ones may be, and no others.
+func (g *rig) heldAgainst(t *testing.T, from uint64, recs []known, told []wal.Rec) []known {
+	t.Helper()
+	var kept []known
+	missing := -1 // in this life one that was appended was not told
+	for _, r := range recs {
+		if is := len(kept) < len(told) && sameRec(told[len(kept)], r.Rec); !is {
+			if r.safe {
+				t.Fatalf("from %d: told %s, not %d, which is safe", from, tell(told), r.At)
+			}
+			missing = r.life
+			continue
 		}
+		if missing == r.life && !r.safe {
+			t.Fatalf("from %d: told %s, %d too, but not all ahead of it", from, tell(told), r.At)
+		}
+		r.safe = true
+		kept = append(kept, r)
 	}
-	if len(told) == 0 && most > 0 {
-		next = g.recs[first].At
+	if len(kept) != len(told) {
+		t.Fatalf("from %d: told %s, %d of them are known", from, tell(told), len(kept))
 	}
-	wantEnds(t, l, from, next)
-	if first > g.safe {
-		g.froms = slices.DeleteFunc(g.froms, func(f uint64) bool { return f < from })
-	}
-	g.l, g.recs = l, g.recs[:first+len(told)]
-	g.safe = len(g.recs)
-	g.froms = slices.DeleteFunc(append(g.froms, from), func(f uint64) bool { return f > next })
+	return kept
+}
+
+// power cuts the power and has it on again.
+func (g *rig) power(mask string) {
+	g.d.Arm(-1, "")
+	cutAndPower(g.d, mask)
+	g.cut = true
 }
 
 // cutOpen opens the log while the disk is armed; it tells whether the power was cut.
@@ -143,6 +204,7 @@ func (g *rig) cutOpen(t *testing.T, from uint64, n int, mask string) bool {
 	}
 	d.Power()
 	g.d = d
+	g.cut = true
 	return true
 }
 

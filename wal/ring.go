@@ -7,7 +7,7 @@ import (
 
 const minCount = 4
 
-// ring is the blocks of a log; their numbers go on without end, round and round.
+// ring is the blocks of a log, numbered from 0 on.
 type ring struct {
 	disk         *disk.Disk
 	first, count int
@@ -24,11 +24,16 @@ func ringOn(d *disk.Disk, first, count int) (ring, api.Errno) {
 	return ring{disk: d, first: first, count: count}, api.OK
 }
 
-// block is where on the disk a block of that number stands.
-func (r ring) block(number uint64) int { return r.first + int(number%uint64(r.count)) }
+func (r ring) read(block int) ([]byte, api.Errno) { return r.disk.Read(r.first + block) }
 
-func (r ring) write(p piece) api.Errno { return r.disk.Write(r.block(p.number()), p.encode()) }
+func (r ring) write(block int, p piece) api.Errno { return r.disk.Write(r.first+block, p.encode()) }
 
-func (r ring) wipe(number uint64) api.Errno {
-	return r.disk.Write(r.block(number), make([]byte, api.Block))
+// round are all its blocks, from the one on that a record of that number takes as long as nothing is lost.
+func (r ring) round(number uint64) []int {
+	start := int(number % uint64(r.count))
+	list := make([]int, r.count)
+	for i := range list {
+		list[i] = (start + i) % r.count
+	}
+	return list
 }
